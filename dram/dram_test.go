@@ -697,3 +697,58 @@ func TestTwoShareNothing(t *testing.T) {
 	puts(t, other, ofClass("b", 4, 9), false, "", "b9")
 	tells(t, c, "")
 }
+
+// Going tells what Put would let go, and lets nothing go, however often it is asked.
+func TestGoing(t *testing.T) {
+	p := newPair(t, 1)
+	if l := p.c.Going(ofClass("z", 0, 9)); len(l) > 0 {
+		t.Errorf("P14.1: Going of an empty one: %q", text(l))
+	}
+	for i, key := range []string{"a", "b", "c", "d"} {
+		p.put(ofClass(key, 4, uint64(i+1)), i%2 == 0)
+	}
+	p.get("a", 0) // so b leaves ahead of it
+	p.same()
+	for range 3 {
+		for i, c := range []struct {
+			x    api.Item
+			want string
+		}{
+			{ofClass("z", 4, 9), "b2"},
+			{ofClass("b", 4, 9), ""},
+			{ofClass("b", 5, 9), "c3* a1* d4"},
+			{ofClass("z", 5, 9), "b2 c3* a1* d4"},
+			{ofClass("z", 0, 9), "b2 c3* a1* d4"},
+			{ofClass("", 5, 9), ""},
+			{ofClass("z", 5, 0), ""},
+		} {
+			l := p.c.Going(c.x)
+			if text(l) != c.want {
+				t.Errorf("P14.1: Going of number %d: %q, want %q", i, text(l), c.want)
+			}
+			for k := range l[:cap(l)] {
+				l[:cap(l)][k] = Out{} // it is the caller's
+			}
+			p.same()
+		}
+	}
+	p.probe()
+}
+
+// It changes nothing that is told later, and does not take long with very many.
+func TestGoingOfMany(t *testing.T) {
+	p := made(t, 1024)
+	for i := range 1024 * 64 {
+		if l := p.Going(ofClass(fmt.Sprint("k", i), 0, 1)); len(l) > 0 {
+			t.Fatalf("P14.1: Going of number %d: %q", i, text(l))
+		}
+		p.Put(ofClass(fmt.Sprint("k", i), 0, 1), false)
+	}
+	for _, class := range []int{0, 5} {
+		x := ofClass("z", class, 1)
+		going := p.Going(x)
+		if gone, _ := p.Put(x, false); !slices.Equal(going, gone) || len(gone) == 0 {
+			t.Errorf("P14.1: Put of class %d: let go %q, and Going told %q", class, text(gone), text(going))
+		}
+	}
+}

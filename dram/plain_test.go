@@ -255,9 +255,14 @@ func newPair(t *testing.T, pages int) pair {
 	return pair{t, made(t, pages), newPlain(pages)}
 }
 
+// put is held against what Going told ahead of it, too: which changes nothing that the plain one could tell.
 func (p pair) put(x api.Item, clean bool) ([]Out, api.Errno) {
 	p.t.Helper()
+	going := p.c.Going(x)
 	gone, e := p.c.Put(x, clean)
+	if !slices.Equal(going, gone) {
+		p.t.Fatalf("P14.1: Put of %q, %d bytes: let go %q, and Going told %q", x.Key, 32+len(x.Key)+len(x.Value), text(gone), text(going))
+	}
 	if want, we := p.w.put(x, clean); !slices.Equal(gone, want) || e != we {
 		p.t.Fatalf("P14.1: Put of %q, %d bytes: let go %q, %d, want %q, %d", x.Key, 32+len(x.Key)+len(x.Value), text(gone), e, text(want), we)
 	}

@@ -783,3 +783,65 @@ func TestBesideEachOther(t *testing.T) {
 	}
 	a.holds("R5: the one")
 }
+
+// Which Puts an engine could do without its device: each list is put whole, one item behind the other, on an
+// engine that is not done, and on one that is.
+func TestTouches(t *testing.T) {
+	great := func(sizes ...int) []api.Item {
+		var l []api.Item
+		for i, size := range sizes {
+			l = append(l, sized(fmt.Sprint("new", i), size, uint64(20+i)))
+		}
+		return l
+	}
+	for i, c := range []struct {
+		l    []api.Item
+		want bool
+	}{
+		{nil, false},
+		{great(121), false},
+		{great(120), true},
+		{great(34 + 3), true},
+		{great(872), false}, // all that the open region has room for
+		{great(873), true},
+		{great(436, 436), false},
+		{great(436, 437), true},
+		{great(121, 751), false},
+		{great(121, 120), true},
+		{great(121, 121, 121, 121, 121, 121, 121), false},
+		{great(121, 121, 121, 121, 121, 121, 121, 121), true},
+		{[]api.Item{sized("g", 872, 9)}, false},
+		{[]api.Item{sized("h", 436, 9), sized("h", 436, 10)}, false}, // what is put anew keeps its room
+		{[]api.Item{sized("h", 436, 9), sized("h", 437, 10)}, true},
+		{[]api.Item{sized("a", 600, 9)}, true}, // the bucket may have it
+		{[]api.Item{sized("b", 600, 9)}, true},
+		{append(great(200), sized("b", 600, 9)), true},
+		{wrong(), false}, // they are refused
+		{append(wrong(), great(872)...), false},
+		{append(wrong(), great(873)...), true},
+	} {
+		for _, done := range []bool{false, true} {
+			x := begin(t, little())
+			x.told(5)
+			x.put("ahead", sized("a", 60, 1))
+			x.put("ahead", sized("g", 600, 2))
+			x.settle("ahead")
+			x.put("ahead", sized("b", 60, 3))
+			x.put("ahead", sized("h", 600, 4))
+			if done {
+				x.both(func(d *flash.Dev) { d.On() })
+			}
+			before := x.d.Copy()
+			if got := x.e.Touches(c.l...); got != c.want || x.d.Stat() != before.Stat() || differ(x.d, before) {
+				t.Errorf("P10.3: number %d, done %t: Touches: %t", i, done, got)
+			}
+			ahead, does := x.d.Stat(), false
+			for _, y := range c.l {
+				does = touched(x.d, ahead, x.put("listed", y)) || does
+			}
+			if does != c.want {
+				t.Errorf("P10.3: number %d, done %t: the device is touched: %t", i, done, does)
+			}
+		}
+	}
+}

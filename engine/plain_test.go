@@ -656,7 +656,22 @@ func (x *pair) answers(what string, e, want api.Errno) api.Errno {
 func (x *pair) put(what string, y api.Item) api.Errno {
 	x.t.Helper()
 	x.ever[y] = true
-	return x.answers(fmt.Sprintf("P10.3: %s: Put(%s)", what, short(y)), x.e.Put(y), x.p.put(y))
+	ahead := x.d.Stat()
+	touches := x.e.Touches(y)
+	if x.d.Stat() != ahead {
+		x.t.Errorf("P10.3: %s: Touches(%s): the device is touched", what, short(y))
+	}
+	e := x.e.Put(y)
+	if want := touched(x.d, ahead, e); touches != want {
+		x.t.Errorf("P10.3: %s: Touches(%s): %t, want %t", what, short(y), touches, want)
+	}
+	return x.answers(fmt.Sprintf("P10.3: %s: Put(%s)", what, short(y)), e, x.p.put(y))
+}
+
+// touched tells whether a Put read, wrote or flushed the device, or couldn't do so. Where the log is worn
+// it is none of these that fails, but what comes ahead of them.
+func touched(d *flash.Dev, ahead flash.Stat, e api.Errno) bool {
+	return d.Stat() != ahead || e == api.EOFF || e == api.EWORN
 }
 
 func (x *pair) set(what string, b super.Block) api.Errno {

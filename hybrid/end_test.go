@@ -218,13 +218,13 @@ func TestDone(t *testing.T) {
 		for _, y := range noGood() {
 			x.refuses(y, 0, api.EARG)
 		}
-		for _, key := range []string{"new", "s", "both", "a", "c"} {
+		for _, key := range []string{"new", "s", "both", "a"} { // c would be written for the new one
 			x.refuses(sized(key, 60), 0, api.EOFF)
 			x.refuses(sized(key, 1050), 0, api.EOFF)
 			unchanged("Set of " + key)
 		}
 		x.tells("s", 0, 0, api.EOFF)     // the bucket would be read
-		x.tells("a", 0, 0, api.EOFF)     // it would be moved up
+		x.tells("a", 0, 0, api.EOFF)     // it would be moved up, and c written
 		x.tells("both", 50, 0, api.EOFF) // it would be removed
 		x.deletes("s", 0, false, api.EOFF)
 		x.deletes("a", 0, false, api.EOFF)

@@ -3,6 +3,7 @@ package hybrid
 import (
 	"bytes"
 	"fmt"
+	"math"
 	"slices"
 	"strings"
 	"testing"
@@ -21,6 +22,7 @@ type plain struct {
 	pages  int
 	losses int
 	lost   int
+	last   uint64 // the last version, or Reserved as Open found it
 	m      *dram.Cache
 	e      *engine.Engine
 }
@@ -39,7 +41,7 @@ func openPlain(d *flash.Dev, g engine.Geometry, pages int, now int64) (*plain, a
 	if e != api.OK {
 		return nil, e
 	}
-	p := &plain{d: d, g: g, pages: pages, losses: d.Losses(), m: m, e: n}
+	p := &plain{d: d, g: g, pages: pages, losses: d.Losses(), last: ahead.Reserved, m: m, e: n}
 	if !ahead.Clean {
 		return p, api.OK
 	}
@@ -79,6 +81,26 @@ func (p *plain) put(x api.Item, clean bool, now int64) api.Errno {
 	return api.OK
 }
 
+// touches tells whether put would read, write or flush the device.
+func (p *plain) touches(x api.Item, now int64) bool {
+	var l []api.Item
+	for _, y := range p.m.Going(x) {
+		if !y.Clean && !dead(y.Item, now) {
+			l = append(l, y.Item)
+		}
+	}
+	return p.e.Touches(l...)
+}
+
+// setTouches tells it of set.
+func (p *plain) setTouches(x api.Item, now int64) bool {
+	if p.e.May(x.Key) {
+		return true
+	}
+	x.Version = 1
+	return p.last < math.MaxUint64 && (p.last == p.e.Block().Reserved || p.touches(x, now))
+}
+
 func (p *plain) get(key string, now int64) (api.Item, bool, api.Errno) {
 	had, inMemory := p.m.Peek(key)
 	if inMemory && !dead(had.Item, now) {
@@ -101,7 +123,7 @@ func (p *plain) get(key string, now int64) (api.Item, bool, api.Errno) {
 	if e == api.ENONE || dead(x, now) {
 		return api.Item{}, false, api.OK
 	}
-	if p.done() || p.put(x, true, now) == api.EOFF {
+	if p.done() && p.touches(x, now) || p.put(x, true, now) == api.EOFF {
 		return api.Item{}, false, api.EOFF
 	}
 	return x, true, api.OK
@@ -111,7 +133,7 @@ func (p *plain) set(x api.Item, now int64) (uint64, api.Errno) {
 	if len(x.Key) < 1 || len(x.Key) > 250 || len(x.Value) > 1024 {
 		return 0, api.EARG
 	}
-	if p.done() {
+	if p.done() && p.setTouches(x, now) {
 		return 0, api.EOFF
 	}
 	if p.e.May(x.Key) {
@@ -124,7 +146,7 @@ func (p *plain) set(x api.Item, now int64) (uint64, api.Errno) {
 		p.m.Delete(x.Key)
 		return 0, e
 	}
-	x.Version = v
+	x.Version, p.last = v, v
 	if e := p.put(x, false, now); e != api.OK {
 		return 0, e
 	}

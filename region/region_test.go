@@ -413,6 +413,9 @@ func (x *trial) holds(what string, keys ...string) {
 	if n := x.l.Number(); n != x.p.number {
 		x.t.Errorf("%s: Number: %d, want %d", what, n, x.p.number)
 	}
+	if n, want := x.l.Room(), 1472-len(records(itemsOf(x.p.open)...)); n != want {
+		x.t.Errorf("%s: Room: %d, want %d", what, n, want)
+	}
 	keys = append(slices.Clone(keys), strange()...)
 	for _, s := range append(x.p.rising(), shelf{things: x.p.open}) {
 		for _, y := range s.things {
